@@ -129,7 +129,7 @@ func (d decimal) quick() (float64, bool) {
 	if d.exp < 0 {
 		return v / table[-d.exp], true
 	}
-	return v * table[d.exp], true
+	return float64(v * table[d.exp]), true
 }
 
 // whole: the number of digits in that base.
