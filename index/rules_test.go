@@ -55,7 +55,7 @@ func TestGreatestIndex(t *testing.T) {
 	})
 	quick(t, "Find of few", func() {
 		for i := range n {
-			ms := []api.Matcher{match("env", api.MatchNe, "x"), match("job", api.MatchEq, "j"), match("id", api.MatchEq, fmt.Sprint(i)), match("zone", api.MatchEq, ""), match("id", api.MatchNe, "none")}
+			ms := []api.Matcher{match("env", api.MatchNe, "x"), match("job", api.MatchEq, "j"), match("id", api.MatchEq, fmt.Sprint(i)), match("zone", api.MatchEq, ""), match("id", api.MatchNe, "none"), match("job", api.MatchEq, "j")}
 			if got, e := x.Find(ms); e != 0 || len(got) != min(1, i%1000) || len(got) == 1 && got[0] != i {
 				t.Fatalf("set %d: %v, %d", i, got, e)
 			}
